@@ -85,7 +85,6 @@ func rooms() [][2][]string {
 
 // scribble writes over a list, and over the room behind it.
 func scribble(l []string) {
-	l = append(l, "!")
 	l = l[:cap(l)]
 	for i := range l {
 		l[i] = "!"
